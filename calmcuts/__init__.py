@@ -1,0 +1,1 @@
+"""Calmcuts: boxes cut into parts as great as told, and kept calm."""

@@ -1,0 +1,57 @@
+"""The interface: names, arguments and defaults, each function and class defined in the file that lists it."""
+
+import importlib
+import inspect
+import unittest
+
+FUNCTIONS = {
+    "calmcuts.parts": {
+        "part": "(above, below)",
+        "plus": "(one, other)",
+        "minus": "(one, other)",
+        "times": "(one, other)",
+        "over": "(one, other)",
+        "less": "(one, other)",
+        "part_text": "(one)",
+        "read_part": "(text)",
+    },
+    "calmcuts.boxes": {
+        "is_box": "(thing)",
+        "box_of": "(wide, high, *, left=0, top=0)",
+        "area": "(box)",
+        "shape": "(box)",
+        "holds": "(box, x, y)",
+        "touching": "(one, other)",
+        "split": "(box, weights, *, side='down')",
+    },
+}
+CLASSES = {
+    "calmcuts.errors": {
+        "CutError": "()", "BadPart": "()", "BadBox": "()", "BadWeight": "()", "BadSide": "()", "BadSizes": "()",
+        "BadBound": "()", "BadName": "()", "BadPlace": "()", "BadDeed": "()", "BadText": "(at)", "Taken": "(name)",
+        "Full": "(what)", "NotEmpty": "(name)", "Within": "(name)", "Missing": "(name)", "NoName": "(name)",
+        "NoNest": "(name)", "Bare": "(name)", "NothingLeft": "()",
+    },
+}
+
+
+class Interface(unittest.TestCase):
+    def test_functions(self):
+        self.check(FUNCTIONS, inspect.isfunction)
+
+    def test_classes(self):
+        self.check(CLASSES, inspect.isclass)
+
+    def check(self, files, is_of_kind):
+        for file, names in files.items():
+            module = importlib.import_module(file)
+            for name, arguments in names.items():
+                with self.subTest(f"{file}.{name}"):
+                    found = getattr(module, name)
+                    self.assertTrue(is_of_kind(found))
+                    self.assertEqual(found.__module__, file)
+                    self.assertEqual(str(inspect.signature(found)), arguments)
+
+
+if __name__ == "__main__":
+    unittest.main()

@@ -1,0 +1,88 @@
+"""The rules of LANGUAGE.md that a short look at the files shows."""
+
+import ast
+import builtins
+import unittest
+from pathlib import Path
+
+PACKAGE = Path(__file__).resolve().parent.parent / "calmcuts"
+FILES = sorted(PACKAGE.rglob("*.py"))
+LIBRARY = {"heapq": {"heappush", "heappop", "heapify", "heapreplace", "heappushpop"},
+           "math": {"gcd", "lcm", "isqrt", "comb", "perm", "factorial"},
+           "itertools": {"product", "combinations", "permutations"}}
+BUILTINS = set("""len range enumerate zip min max sum abs sorted reversed int str bool bytes list tuple dict set frozenset
+    isinstance ord repr any all divmod iter next map super property staticmethod classmethod object
+    Exception ValueError TypeError KeyError IndexError LookupError ZeroDivisionError ArithmeticError OverflowError
+    RuntimeError NotImplementedError AttributeError StopIteration NotImplemented""".split())
+
+
+def tree(file):
+    return ast.parse(file.read_text(encoding="utf-8"))
+
+
+def name_of(file):
+    parts = file.relative_to(PACKAGE.parent).with_suffix("").parts
+    return ".".join(parts[:-1] if parts[-1] == "__init__" else parts)
+
+
+def defined_in(file):
+    names = set()
+    for row in tree(file).body:
+        if isinstance(row, (ast.FunctionDef, ast.ClassDef)):
+            names.add(row.name)
+        elif isinstance(row, ast.Assign):
+            names.update(target.id for target in row.targets)
+    return names
+
+
+class Language(unittest.TestCase):
+    def test_folder(self):
+        for path in PACKAGE.rglob("*"):
+            if "__pycache__" not in path.parts:
+                self.assertTrue(path.is_dir() or path.suffix == ".py", path)
+
+    def test_lines_and_characters(self):
+        for file in FILES:
+            with self.subTest(file.name):
+                text = file.read_text(encoding="utf-8")
+                self.assertTrue(all(sign == "\n" or " " <= sign <= "~" for sign in text))
+                self.assertLessEqual(len(text.splitlines()), 399)
+                self.assertLessEqual(max(map(len, text.splitlines()), default=0), 120)
+
+    def test_functions(self):
+        for file in FILES:
+            for node in ast.walk(tree(file)):
+                if isinstance(node, ast.FunctionDef):
+                    with self.subTest(f"{file.name} {node.name}"):
+                        self.assertLessEqual(node.end_lineno - node.lineno + 1, 40)
+
+    def test_imports(self):
+        known = {name_of(file): defined_in(file) for file in FILES} | LIBRARY
+        for file in FILES:
+            for node in ast.walk(tree(file)):
+                self.assertNotIsInstance(node, ast.Import)
+                if isinstance(node, ast.ImportFrom):
+                    for name in node.names:
+                        with self.subTest(f"{file.name} {name.name}"):
+                            self.assertIn(name.name, known.get(node.module, ()))
+                            self.assertIsNone(name.asname)
+
+    def test_builtins(self):
+        barred = set(dir(builtins)) - BUILTINS - {"True", "False", "None"}
+        for file in FILES:
+            for node in ast.walk(tree(file)):
+                if isinstance(node, ast.Name):
+                    with self.subTest(f"{file.name} {node.lineno}"):
+                        self.assertNotIn(node.id, barred)
+
+    def test_strings(self):
+        for file in FILES:
+            for node in ast.walk(tree(file)):
+                if isinstance(node, ast.Constant) and isinstance(node.value, str):
+                    self.assertNotIn("%", node.value)
+                self.assertFalse(isinstance(node, ast.Constant) and isinstance(node.value, float))
+                self.assertNotIsInstance(node, (ast.Global, ast.Div))
+
+
+if __name__ == "__main__":
+    unittest.main()
