@@ -62,9 +62,12 @@ def touching(one, other):
 
 def split(box, weights, *, side=DOWN):
     """The boxes, by the weights' shares, into which a box is cut along a side."""
-    check_box(box)
-    check_weights(weights)
-    check_side(side)
+    check_split(box, weights, side)
+    return shares(box, weights, side)
+
+
+def shares(box, weights, side):
+    """As `split`, of weights that may come to more than one weight may be, as those of rows do."""
     total = sum(weights)
     ahead = 0
     found = []
@@ -88,10 +91,22 @@ def check_weights(thing):
         raise BadWeight()
 
 
+def is_side(thing):
+    """Whether a thing is a side."""
+    return isinstance(thing, str) and thing in (DOWN, ACROSS)
+
+
 def check_side(thing):
     """Refuse what is no side."""
-    if not isinstance(thing, str) or thing not in (DOWN, ACROSS):
+    if not is_side(thing):
         raise BadSide()
+
+
+def check_split(box, weights, side):
+    """Refuse what is no box, no weights or no side, in this order."""
+    check_box(box)
+    check_weights(weights)
+    check_side(side)
 
 
 def _lies_in(begin, length, point):

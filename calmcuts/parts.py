@@ -5,6 +5,7 @@ from math import gcd
 from calmcuts.errors import BadPart, BadText
 
 NOUGHT = (0, 1)
+ONE = (1, 1)
 MOST_FIGURES = 200
 
 
@@ -64,6 +65,22 @@ def lesser(one, other):
 def greater(one, other):
     """The greater one of two parts."""
     return other if less(one, other) else one
+
+
+def least_of(parts):
+    """The least one of parts, of which there is one or more."""
+    found = parts[0]
+    for one in parts:
+        found = lesser(found, one)
+    return found
+
+
+def greatest_of(parts):
+    """The greatest one of parts, of which there is one or more."""
+    found = parts[0]
+    for one in parts:
+        found = greater(found, one)
+    return found
 
 
 def part_text(one):

@@ -24,6 +24,25 @@ FUNCTIONS = {
         "touching": "(one, other)",
         "split": "(box, weights, *, side='down')",
     },
+    "calmcuts.rows": {
+        "laid": "(box, weights, sizes, *, side='down')",
+        "row_shape": "(box, weights, first, size, *, side='down')",
+        "worst": "(box, weights, sizes, *, side='down')",
+    },
+    "calmcuts.best": {
+        "best": "(box, weights, *, side='down')",
+        "greedy": "(box, weights, *, side='down')",
+        "least": "(box, weights, *, side='down')",
+        "beginnings": "(box, weights, bound, *, side='down')",
+        "shuts": "(box, weights, bound, some, *, side='down')",
+    },
+    "calmcuts.slices": {
+        "sliced": "(box, weights, tree)",
+        "slices_worst": "(box, weights, tree)",
+        "best_slices": "(box, weights)",
+        "refuted": "(box, weights, bound)",
+        "refutes": "(box, weights, bound, paper)",
+    },
 }
 CLASSES = {
     "calmcuts.errors": {

@@ -75,6 +75,23 @@ class Language(unittest.TestCase):
                     with self.subTest(f"{file.name} {node.lineno}"):
                         self.assertNotIn(node.id, barred)
 
+    def test_local_names(self):
+        for file in FILES:
+            rows = tree(file).body
+            taken = {row.name for row in rows if isinstance(row, ast.ClassDef)} | set(dir(builtins))
+            taken |= {name.name for row in rows if isinstance(row, ast.ImportFrom) for name in row.names}
+            for node in ast.walk(tree(file)):
+                if isinstance(node, ast.arg):
+                    self.assertNotIn(node.arg, taken, f"{file.name} {node.lineno}")
+                elif isinstance(node, ast.Name) and isinstance(node.ctx, ast.Store):
+                    self.assertNotIn(node.id, taken, f"{file.name} {node.lineno}")
+
+    def test_what_is_iterated_at_once(self):
+        # A house can be compared, and then `any`, `all` and their like take no generator expression.
+        for file in FILES:
+            for node in ast.walk(tree(file)):
+                self.assertNotIsInstance(node, ast.GeneratorExp, f"{file.name}")
+
     def test_strings(self):
         for file in FILES:
             for node in ast.walk(tree(file)):

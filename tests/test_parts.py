@@ -5,8 +5,8 @@ from fractions import Fraction
 from math import gcd
 
 from calmcuts.errors import BadPart, BadText
-from calmcuts.parts import (greater, is_number, is_part, less, lesser, minus, over, part, part_text, plus, read_part,
-                            times)
+from calmcuts.parts import (greater, greatest_of, is_number, is_part, least_of, less, lesser, minus, over, part,
+                            part_text, plus, read_part, times)
 
 SIXTY = 10 ** 59 + 7
 TWO_HUNDRED = 10 ** 200 - 1
@@ -87,6 +87,13 @@ class Reckoning(unittest.TestCase):
                 self.assertIs(less(one, other), fraction(one) < fraction(other))
                 self.assertEqual(lesser(one, other), min(one, other, key=fraction))
                 self.assertEqual(greater(one, other), max(one, other, key=fraction))
+
+    def test_least_and_greatest_of_many(self):
+        for at, one in enumerate(PARTS):
+            self.assertEqual((least_of([one]), greatest_of([one])), (one, one))
+            turned = PARTS[at:] + PARTS[:at]
+            self.assertEqual(least_of(turned), min(PARTS, key=fraction))
+            self.assertEqual(greatest_of(turned), max(PARTS, key=fraction))
 
     def test_the_same_part_twice(self):
         for one in PARTS:
