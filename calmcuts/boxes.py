@@ -7,6 +7,7 @@ DOWN = "down"
 ACROSS = "across"
 MOST_CHILDREN = 12
 MOST_WEIGHT = 400000
+MOST_LENGTH = 1000
 
 
 def is_box(thing):
@@ -80,6 +81,12 @@ def shares(box, weights, side):
 def check_box(thing):
     """Refuse what is no box."""
     if not is_box(thing):
+        raise BadBox()
+
+
+def check_lengths(wide, high):
+    """Refuse what is no width and height, in whole numbers, of a house or of what is drawn."""
+    if not all([is_number(length) and 1 <= length <= MOST_LENGTH for length in (wide, high)]):
         raise BadBox()
 
 

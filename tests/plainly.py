@@ -1,4 +1,4 @@
-"""What points 7 to 11 say, reckoned plainly with fractions and by trying all there is, to hold the program against."""
+"""What points 6 to 15 and 20 say, reckoned plainly with fractions and by trying all there is, to hold the program against."""
 
 from fractions import Fraction
 
@@ -102,3 +102,84 @@ def is_paper(box, weights, bound, paper):
     ways = [halves(box, weights, at, side) for side in ("down", "across") for at in range(1, len(weights))]
     return len(paper) == len(ways) and all(
         is_paper(*ways[place][half], bound, within) for place, (half, within) in enumerate(paper))
+
+
+def ends_of(sizes):
+    """Of each row the place of its first thing and the place behind its last."""
+    return [(sum(sizes[:at]), sum(sizes[:at + 1])) for at in range(len(sizes))]
+
+
+def shapes_of_rows(box, weights, side):
+    """All rows' shapes in a box of parts, as fractions, by the places where they begin and end."""
+    many = len(weights)
+    whole = fractions_of(box)
+    return {(first, end): shape_of_row(whole, weights, first, end - first, side)
+            for first in range(many) for end in range(first + 1, many + 1)}
+
+
+def cost_of(sizes, kept):
+    return sum((first, end - first) not in kept for first, end in ends_of(sizes))
+
+
+def calm_of_all(shapes, many, bound, kept):
+    """The sizes within the bound that cost the least, the first of them, and their cost; or None."""
+    costs = {sizes: cost_of(sizes, kept) for sizes in all_sizes(many)
+             if all(shapes[row] <= bound for row in ends_of(sizes))}
+    if not costs:
+        return None
+    return min(costs, key=lambda sizes: (costs[sizes], sizes)), min(costs.values())
+
+
+def numbers_of_all(shapes, many, bound, kept):
+    """The least cost of all rows within the bound that lead to each beginning, or None."""
+    found = []
+    for place in range(many + 1):
+        calm = calm_of_all(shapes, place, bound, kept)
+        found.append(None if calm is None else calm[1])
+    return found
+
+
+def is_shown(shapes, many, bound, kept, told):
+    """Point 13, word by word."""
+    if len(told) != many + 1 or told[0] != 0:
+        return False
+    for (first, end), shape in shapes.items():
+        if shape <= bound and told[first] is not None:
+            if told[end] is None or told[end] > told[first] + ((first, end - first) not in kept):
+                return False
+    return True
+
+
+def nearest_line(edge, many, length):
+    return min(range(many + 1), key=lambda line: (abs(edge - Fraction(line * length, many)), line))
+
+
+def all_drawn(boxes, wide, high, columns, rows):
+    """All names that each square has."""
+    found = [[[] for _ in range(columns)] for _ in range(rows)]
+    for name, (left, top, width, height) in boxes.items():
+        for row in range(nearest_line(top, rows, high), nearest_line(top + height, rows, high)):
+            for column in range(nearest_line(left, columns, wide), nearest_line(left + width, columns, wide)):
+                found[row][column].append(name)
+    return found
+
+
+def edge_in_common(one, other):
+    beside = min(one[0] + one[2], other[0] + other[2]) - max(one[0], other[0])
+    beneath = min(one[1] + one[3], other[1] + other[3]) - max(one[1], other[1])
+    if beside == 0 and beneath > 0:
+        return beneath
+    if beneath == 0 and beside > 0:
+        return beside
+    return Fraction(0)
+
+
+def all_ways(boxes, one, other):
+    """All rows of unlike names from one to the other, each a neighbour of the one ahead."""
+    found = []
+    ways = [[one]]
+    while ways:
+        found.extend(way for way in ways if way[-1] == other)
+        ways = [way + [name] for way in ways for name in boxes
+                if name not in way and edge_in_common(boxes[way[-1]], boxes[name]) > 0]
+    return found

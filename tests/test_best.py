@@ -9,7 +9,7 @@ from calmcuts.best import beginnings, best, greedy, least, shuts
 from calmcuts.boxes import ACROSS, DOWN, MOST_WEIGHT, box_of, shape
 from calmcuts.errors import BadBound, BadBox, BadSide, BadWeight
 from calmcuts.rows import row_shape, worst
-from plainly import all_sizes, fractions_of, pair, shape_of_row
+from plainly import all_sizes, ends_of, pair, shapes_of_rows
 from things import BAD, BAD_BOUNDS, BAD_SIDES, BAD_WEIGHTS, GOOD, GREAT, Prickly, named
 
 SIDES = (DOWN, ACROSS)
@@ -18,18 +18,6 @@ BOXES = [box_of(6, 4), box_of(6, 6), box_of(1, 40), box_of(40, 1), BOX]
 WEIGHTS = ([list(weights) for many in (1, 2, 3, 4) for weights in product((1, 2, 5), repeat=many)] +
            [[1] * 5, [1] * 7, [7, 1, 1, 7, 1, 1], [400000, 1, 1, 400000], [1, 2, 3, 4, 5, 6, 7], [9, 8, 5, 3, 2, 1, 1]])
 TWELVE = [[MOST_WEIGHT] * 12, list(range(1, 13)), [MOST_WEIGHT, 1] * 6, [3, 1, 4, 1, 5, 9, 2, 6, 5, 3, 5, 8]]
-
-
-def shapes_of_rows(box, weights, side):
-    """All rows' shapes, as fractions, by the places where they begin and end."""
-    many = len(weights)
-    whole = fractions_of(box)
-    return {(first, end): shape_of_row(whole, weights, first, end - first, side)
-            for first in range(many) for end in range(first + 1, many + 1)}
-
-
-def ends_of(sizes):
-    return [(sum(sizes[:at]), sum(sizes[:at + 1])) for at in range(len(sizes))]
 
 
 def best_of_all(shapes, many):

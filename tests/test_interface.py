@@ -43,6 +43,19 @@ FUNCTIONS = {
         "refuted": "(box, weights, bound)",
         "refutes": "(box, weights, bound, paper)",
     },
+    "calmcuts.calm": {
+        "calm": "(box, weights, bound, kept, *, side='down')",
+        "numbers": "(box, weights, bound, kept, *, side='down')",
+        "shown": "(box, weights, bound, kept, told, *, side='down')",
+        "sway": "(weights, others)",
+    },
+    "calmcuts.squares": {
+        "drawn": "(boxes, wide, high, columns, rows)",
+    },
+    "calmcuts.ways": {
+        "neighbours": "(boxes, name)",
+        "way": "(boxes, one, other)",
+    },
 }
 CLASSES = {
     "calmcuts.errors": {

@@ -1,4 +1,4 @@
-"""What several tests hand in: good boxes, and things that are no boxes, weights, sides, bounds or sizes."""
+"""What several tests hand in: good boxes, and things that are no boxes, weights, sides, bounds, sizes or kept rows."""
 
 
 class Prickly:
@@ -53,6 +53,16 @@ BAD_SIZES = [
     (GREAT, 3 - GREAT), (True, 2), (2, True), (1, 1, True), (3, False), (3.0,), ("3",), (None,), (1, None), ((3,),),
     ([1], 2), [3], [1, 2], [], {3: 1}, {3}, {1, 2}, range(1, 3), 3, 1, True, False, None, "3", "12", b"3", object(),
     int, len, Prickly(), (Prickly(),), (1, Prickly()), (1,) * 100000]
+# For three things.
+BAD_KEPT = [
+    (), ((0, 1),), [[0, 1]], [(0, 1), [1, 1]], ([0, 1],), [(0, 1), (0, 1)], [(0, 1), (1, 2), (0, 1)], [(0, 3)] * 100000,
+    [(-1, 1)], [(-1, 4)], [(3, 1)], [(4, 1)], [(0, 4)], [(1, 3)], [(2, 2)], [(0, 0)], [(3, 0)], [(1, 0)], [(1, -1)],
+    [(3, -1)], [(0, 1), (1, 0)], [(True, 1)], [(False, 1)], [(0, True)], [(1, 1), (0, True)], [(0, 1), (0, True)],
+    [(0,)], [(0, 1, 1)], [()], [(0, 1), ()], [(GREAT, 1)], [(0, GREAT)], [(-GREAT, GREAT)], [(GREAT, -GREAT)], [None],
+    [0], [0, 1], ["01"], [b"01"], [{0: 0, 1: 1}], [{0, 1}], [("0", "1")], [(0, "1")], [(0, None)], [(None, 1)],
+    [(0.0, 1)], [(0, 1.0)], [((0,), (1,))], [Prickly()], [(Prickly(), 1)], [(0, Prickly())], [(0, 1), Prickly()],
+    None, True, False, 0, 1, "", "01", b"", {}, {0: 1}, {(0, 1): True}, {(0, 1)}, range(2), object(), list, len,
+    Prickly()]
 
 
 def named(thing):
