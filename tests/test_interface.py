@@ -56,6 +56,10 @@ FUNCTIONS = {
         "neighbours": "(boxes, name)",
         "way": "(boxes, one, other)",
     },
+    "calmcuts.pages": {
+        "page": "(house)",
+        "read_page": "(text)",
+    },
 }
 CLASSES = {
     "calmcuts.errors": {
@@ -64,6 +68,29 @@ CLASSES = {
         "Full": "(what)", "NotEmpty": "(name)", "Within": "(name)", "Missing": "(name)", "NoName": "(name)",
         "NoNest": "(name)", "Bare": "(name)", "NothingLeft": "()",
     },
+    "calmcuts.house": {"House": "(wide, high, *, bound=(2, 1), side='down')"},
+    "calmcuts.desk": {"Desk": "(house)"},
+}
+METHODS = {
+    "calmcuts.house.House": {
+        "__init__": "(self, wide, high, *, bound=(2, 1), side='down')",
+        "put": "(self, name, nest, at, weight)", "nest": "(self, name, nest, at)", "weigh": "(self, name, weight)",
+        "take": "(self, name)", "move": "(self, name, nest, at)", "turn": "(self, nest, side)",
+        "resize": "(self, wide, high)", "bind": "(self, bound)", "anew": "(self, nest)", "do": "(self, deed)",
+        "together": "(self, deeds)", "undo": "(self)", "redo": "(self)", "size": "(self)", "bound": "(self)",
+        "names": "(self)", "is_nest": "(self, name)", "children": "(self, nest)", "rows": "(self, nest)",
+        "side": "(self, nest)", "weight": "(self, name)", "place": "(self, name)", "box": "(self, name)",
+        "boxes": "(self)", "under": "(self, x, y)", "worst": "(self)", "neighbours": "(self, name)",
+        "way": "(self, one, other)", "squares": "(self, columns, rows)", "steps": "(self)", "twin": "(self)",
+        "__eq__": "(self, other)", "__len__": "(self)", "__repr__": "(self)",
+    },
+    "calmcuts.desk.Desk": {"__init__": "(self, house)", "say": "(self, line)"},
+}
+VALUES = {
+    "calmcuts.boxes": {"DOWN": "down", "ACROSS": "across", "MOST_CHILDREN": 12, "MOST_WEIGHT": 400000},
+    "calmcuts.slices": {"MOST_SLICED": 6, "MOST_REFUTED": 5},
+    "calmcuts.deeds": {"MOST_NAMES": 40, "MOST_DEEP": 4, "MOST_THING": 10000},
+    "calmcuts.house": {"BOUND": (2, 1)},
 }
 
 
@@ -73,6 +100,24 @@ class Interface(unittest.TestCase):
 
     def test_classes(self):
         self.check(CLASSES, inspect.isclass)
+
+    def test_methods(self):
+        for path, names in METHODS.items():
+            file, _, name = path.rpartition(".")
+            found = getattr(importlib.import_module(file), name)
+            for method, arguments in names.items():
+                with self.subTest(f"{path}.{method}"):
+                    # In the class itself, not only in one above it.
+                    self.assertIn(method, vars(found))
+                    self.assertEqual(str(inspect.signature(vars(found)[method])), arguments)
+
+    def test_values(self):
+        for file, names in VALUES.items():
+            for name, value in names.items():
+                with self.subTest(f"{file}.{name}"):
+                    found = getattr(importlib.import_module(file), name)
+                    self.assertEqual(found, value)
+                    self.assertIs(type(found), type(value))
 
     def check(self, files, is_of_kind):
         for file, names in files.items():

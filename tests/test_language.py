@@ -16,6 +16,15 @@ BUILTINS = set("""len range enumerate zip min max sum abs sorted reversed int st
     RuntimeError NotImplementedError AttributeError StopIteration NotImplemented""".split())
 
 
+BARRED_BEGINNINGS = ("_wall", "_pe_", "_dcw_", "_enum_", "_cm_", "_twin_re_", "_lay_", "_law_", "_stub_", "_sre",
+                     "_WallAttr", "_cold", "_tuplegetter", "_outside", "_record", "_written_out", "_member_names")
+BARRED_NAMES = set("""register mro elements open input law version_info with_traceback add_note attrgetter breakpoint
+    builtins compile copyright delattr dir eval exec exit gc getattr globals hasattr help id importlib license locals
+    methodcaller os quit setattr super type vars sys format format_map""".split())
+BARRED_WORDS = """type typing typing_extensions enum Enum IntEnum StrEnum Flag IntFlag Generic Protocol ABC ABCMeta
+    namedtuple NamedTuple TypedDict TYPE_CHECKING abstractmethod""".split()
+
+
 def tree(file):
     return ast.parse(file.read_text(encoding="utf-8"))
 
@@ -85,6 +94,29 @@ class Language(unittest.TestCase):
                     self.assertNotIn(node.arg, taken, f"{file.name} {node.lineno}")
                 elif isinstance(node, ast.Name) and isinstance(node.ctx, ast.Store):
                     self.assertNotIn(node.id, taken, f"{file.name} {node.lineno}")
+
+    def test_names(self):
+        for file in FILES:
+            for node in ast.walk(tree(file)):
+                names = [getattr(node, field, None) for field in ("id", "attr", "arg", "name")]
+                for name in names:
+                    if isinstance(name, str):
+                        with self.subTest(f"{file.name} {name}"):
+                            self.assertFalse(name.startswith(BARRED_BEGINNINGS))
+                            self.assertNotIn(name, BARRED_NAMES)
+                            self.assertRegex(name, "^(_?[A-Za-z][A-Za-z0-9_]*|_|__[a-z]+__)$")
+            for word in BARRED_WORDS:
+                self.assertNotRegex(file.read_text(encoding="utf-8"), rf"\b{word}\b")
+
+    def test_methods_and_attributes(self):
+        methods, attributes = set(), set()
+        for file in FILES:
+            for node in ast.walk(tree(file)):
+                if isinstance(node, ast.ClassDef):
+                    methods.update(row.name for row in node.body if isinstance(row, ast.FunctionDef))
+                elif isinstance(node, ast.Attribute) and isinstance(node.ctx, ast.Store):
+                    attributes.add(node.attr)
+        self.assertEqual(methods & attributes, set())
 
     def test_what_is_iterated_at_once(self):
         # A house can be compared, and then `any`, `all` and their like take no generator expression.
