@@ -47,14 +47,6 @@ def check_limit(thing):
         raise BadBound()
 
 
-def check_room(plan, nest, levels):
-    """Refuse a child more in a nest that has no room for one with so many nests within one another."""
-    if len(plan.orders[nest]) >= MOST_CHILDREN:
-        raise Full("children")
-    if 1 + len(nests_around(plan, nest)) + levels > MOST_DEEP:
-        raise Full("deep")
-
-
 def put_in(plan, name, nest, at, weight):
     """Put a thing more into a plan that may be changed, or refuse it."""
     _check_new(plan, name, nest, at)
@@ -100,7 +92,7 @@ def _move(plan, name, nest, at):
     # Taken out ahead of the checks, for place and room are those of the nest without it.
     _take_from_among(plan, name)
     _check_place(plan, nest, at)
-    check_room(plan, nest, levels_in(plan, name))
+    _check_room(plan, nest, levels_in(plan, name))
     _put_among(plan, name, nest, at)
 
 
@@ -157,7 +149,15 @@ def _check_place(plan, nest, thing):
 def _check_room_for_new(plan, nest):
     if len(names_in(plan)) >= MOST_NAMES:
         raise Full("names")
-    check_room(plan, nest, 0)
+    _check_room(plan, nest, 0)
+
+
+def _check_room(plan, nest, levels):
+    """Refuse a child more, with so many nests within one another, in a nest that has no room for it."""
+    if len(plan.orders[nest]) >= MOST_CHILDREN:
+        raise Full("children")
+    if 1 + len(nests_around(plan, nest)) + levels > MOST_DEEP:
+        raise Full("deep")
 
 
 def _put_among(plan, name, nest, at):
